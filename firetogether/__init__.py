@@ -1,0 +1,1 @@
+"""Firetogether: rows of hands that all fire at one beat."""
