@@ -27,6 +27,10 @@ o o m m, - o m m, o m o o, o m - o, - m o g, - m - g
 """
 
 
+# Lengths of sixty figures or so, of rows that can't be run; by halving some come to odd numbers alone, or even ones.
+BIGS = (10 ** 59, 10 ** 59 + 7, 10 ** 60 - 1, 10 ** 61 - 1, 2 ** 199, 2 ** 199 + 1, 2 ** 199 + 2)
+
+
 def rows_of(text):
     """The rising tuple of rows written as `left own right new`, parted by commas or lines."""
     rows = [part.split() for line in text.split("\n") for part in line.split(",") if part.strip()]
@@ -235,3 +239,24 @@ def chance_machine(rng, most_deep):
 def chance_machines(many, most_deep, seed):
     rng = random.Random(seed)
     return [chance_machine(rng, most_deep) for turn in range(many)]
+
+
+def stirring_places(n, rng):
+    """Hands and beats of a row of n of the house at which something goes on: posts, waves, and where they meet.
+
+    By a plain halving of the row, along one way down made by chance; of the many levels some are looked at.
+    """
+    told = {(0, 0), (n - 1, 0), (n // 2, n // 3), (rng.randrange(n), rng.randrange(3 * n))}
+    begin, end, side, begun = 0, n - 1, 0, 0
+    while end - begin > 1:
+        far = end - begin
+        met = begun + (3 * far + 1) // 2
+        if begun == 0 or far < 30 or rng.random() < 0.05:
+            for age in (0, 1, 2, 3, far // 2, far - 1, far, far + 1, far + far // 4, met - begun - 1):
+                for off in (0, age, 2 * far - age, age // 3, far):
+                    if 0 <= off <= far:
+                        told.add((begin + off if side == 0 else end - off, begun + age))
+        side = rng.choice([0, 1])
+        begin, end = (begin + (far + 1) // 2, end) if side == 0 else (begin, begin + far // 2)
+        begun = met
+    return sorted(told | {(begin, begun), (end, begun), (begin, begun + 1)})

@@ -205,7 +205,8 @@ class Shown(unittest.TestCase):
 
     def test_rows_of_the_second_to_which_nothing_goes(self):
         more = "- g - a, - g o a, - a - f, - a o f, a o - a"
-        self.good(TWO, table(more + ", x y z v, - x - y, a x - g, g g x a"), PAIRS)
+        for text in ("x y z v, - x - y, a x - g, g g x a", "x g g a", "g x g a", "g g x a", "x a - g", "- o x g"):
+            self.good(TWO, table(more + ", " + text), PAIRS)
         self.good(ONE, table(more + ", x y z v, - x - y"), itself(ONE))
 
     def test_twins_that_become_one_another(self):
@@ -224,6 +225,12 @@ class Shown(unittest.TestCase):
         self.bad(table("- g - x, - x - f"), table("- g - y, - y - f"), pairs_of("f f,g g,o o,x x"))
         self.bad(table("x g - f"), table("y g - f"), pairs_of("f f,g g,o o,x x"))
         self.good(table("x g - f"), table("y g - f"), pairs_of("f f,g g,o o,x y"))
+
+    def test_a_state_called_table_is_one_as_others_are(self):
+        one = table("- g - table, - g o tablf, - table - f, - tablf - f")
+        other = table("- g - table, - g o table, - table - f")
+        self.good(one, other, pairs_of("f f,g g,o o,table table,tablf table"))
+        self.assertEqual(folded(one), (other, pairs_of("f f,g g,o o,table table,tablf table")))
 
     def test_lists_and_other_lengths(self):
         self.bad(TWO, ONE, list(PAIRS))

@@ -4,9 +4,7 @@ import unittest
 
 from firetogether.beats import row_beat
 from firetogether.stretches import levels, shows_levels, stretch
-from tests.helpers import anythings, brief
-
-BIGS = (10 ** 59, 10 ** 59 + 7, 10 ** 60 - 1, 10 ** 61 - 1, 2 ** 199, 2 ** 199 + 1, 2 ** 199 + 2)
+from tests.helpers import BIGS, anythings, brief
 
 
 def ref_levels(n):
