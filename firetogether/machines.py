@@ -44,6 +44,12 @@ def is_machine(thing):
     return is_machine_within(thing, DEEPEST)
 
 
+def need_machine(thing):
+    """Refuses what is no machine."""
+    if not is_machine(thing):
+        raise NoMachine("this is no machine")
+
+
 def part_at(state, at):
     """What stands at this place of a pair; where nobody is, nobody is for each part either."""
     return None if state is None else state[at]
@@ -204,8 +210,7 @@ class Works:
     """How a machine goes on, whichever it is; an end is None."""
 
     def __init__(self, machine):
-        if not is_machine(machine):
-            raise NoMachine("this is no machine")
+        need_machine(machine)
         self.inner = works_of(machine)
 
     def quiet(self):

@@ -260,3 +260,20 @@ def stirring_places(n, rng):
         begin, end = (begin + (far + 1) // 2, end) if side == 0 else (begin, begin + far // 2)
         begun = met
     return sorted(told | {(begin, begun), (end, begun), (begin, begun + 1)})
+
+
+def renamed(table, names):
+    """The table under other names; those that are not told stay."""
+    new = lambda name: names.get(name, name)
+    rows = {tuple(new(name) for name in row) for row in table[4]}
+    return table[:1] + tuple(new(name) for name in table[1:4]) + (tuple(sorted(rows)),)
+
+
+def without(table, at):
+    """The table with the row at this place left out."""
+    return table[:4] + (table[4][:at] + table[4][at + 1:],)
+
+
+def exchanged(table, at, new):
+    """The table whose row at this place has another new."""
+    return table[:4] + (table[4][:at] + (table[4][at][:3] + (new,),) + table[4][at + 1:],)
