@@ -12,13 +12,13 @@ def runs(works, most, late):
     return [run_first(works, n, 0, late, False)[1] for n in range(1, most + 1)]
 
 
-def windows_in(all_rows):
-    """The list of the unlike (left, own, right, new) of these runs, in the order in which they are met."""
+def windows_in(all_rows, closed):
+    """The list of the unlike (left, own, right, new) of these runs of rows or rings, in the order of meeting them."""
     # A dict keeps each key once, where it came first.
     met = {}
     for rows in all_rows:
         for row, coming in zip(rows, rows[1:]):
-            for (left, own, right), new in zip(threes(row, False), coming):
+            for (left, own, right), new in zip(threes(row, closed), coming):
                 met[(left, own, right, new)] = True
     return list(met)
 
@@ -35,7 +35,7 @@ def states_in(all_rows):
 
 def windows(machine, most, late):
     """The list of the unlike (left, own, right, new) met in the rows of 1 to most hands started at 0."""
-    return windows_in(runs(Works(machine), most, late))
+    return windows_in(runs(Works(machine), most, late), False)
 
 
 def states_met(machine, most, late):
@@ -88,4 +88,4 @@ def learned(machine, most, late):
     works = Works(machine)
     all_rows = runs(works, most, late)
     names = named(works, states_in(all_rows))
-    return (table_of(windows_in(all_rows), names), names)
+    return (table_of(windows_in(all_rows, False), names), names)

@@ -55,11 +55,20 @@ def one_state_each(state_for, rows, facing):
     return True
 
 
-def paper_for(works, words, state_for):
-    """The tuple of the states for these roles; None where others fire than the one for f."""
+def paper_by(works, words, runs, facing):
+    """The tuple of the states that face these roles in the house's runs; None where not one does, or others fire."""
+    state_for = {}
+    for rows, others in zip(runs, facing):
+        if not one_state_each(state_for, rows, others):
+            return None
     if not fires_as_told(works, state_for, words):
         return None
     return tuple([state_for[word] for word in words])
+
+
+def row_runs(works):
+    """For each row of 1 to 20 hands the list of what it is from beat 0 to the beat at which the house's fires."""
+    return [run_to(works, n, 0, row_beat(n), False) for n in range(1, LONGEST + 1)]
 
 
 def plays(machine, thing):
@@ -73,10 +82,4 @@ def plays(machine, thing):
 def names_for(machine):
     """The paper of names that the machine's rows of 1 to 20 hands tell; None where they tell none."""
     works = Works(machine)
-    house = Works(row_machine())
-    state_for = {}
-    for n in range(1, LONGEST + 1):
-        beats = row_beat(n)
-        if not one_state_each(state_for, run_to(house, n, 0, beats, False), run_to(works, n, 0, beats, False)):
-            return None
-    return paper_for(works, ROLES, state_for)
+    return paper_by(works, ROLES, row_runs(Works(row_machine())), row_runs(works))

@@ -2,6 +2,7 @@
 
 import ast
 import builtins
+import functools
 import pathlib
 import re
 import unittest
@@ -30,10 +31,12 @@ NODES_OUT = (
 TWO_UNDERSCORES = {"__init__", "__eq__", "__repr__", "__str__", "__len__"}
 
 
+@functools.lru_cache(None)
 def sources():
     return {path.stem: path.read_text(encoding="utf-8") for path in sorted(PACKAGE.glob("*.py"))}
 
 
+@functools.lru_cache(None)
 def trees():
     return {name: ast.parse(text) for name, text in sources().items()}
 
